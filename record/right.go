@@ -20,6 +20,7 @@ const (
 const (
 	bitsBytes  = 2
 	realBytes  = 8
+	pairBytes  = 2   // texts are made of pairs, as a record has an even number of bytes: the 0 at the end makes them so
 	textBytes  = 512 // at most, of a text
 	nameBytes  = 32  // at most, of a cell's name
 	attrBytes  = 44
@@ -67,9 +68,9 @@ func frameOf(kind byte) (frame, bool) {
 	case kinds.Presentation, kinds.STrans, kinds.ElFlags, kinds.StrClass:
 		return frame{data: dataBits, piece: bitsBytes, most: 1}, true
 	case kinds.LibName, kinds.String, kinds.PropValue, kinds.Mask, kinds.SrfName:
-		return frame{data: dataText, piece: 1, most: textBytes, signs: inText}, true
+		return frame{data: dataText, piece: pairBytes, most: textBytes / pairBytes, signs: inText}, true
 	case kinds.StrName, kinds.SName:
-		return frame{data: dataText, piece: 1, most: nameBytes, signs: inName}, true
+		return frame{data: dataText, piece: pairBytes, most: nameBytes / pairBytes, signs: inName}, true
 	case kinds.AttrTable:
 		return frame{data: dataText, piece: attrBytes, most: 1}, true
 	case kinds.Fonts:

@@ -30,8 +30,8 @@ func table() []row {
 		{[]byte{0x1b, 0x1c}, 5, 8, 1, 8, ""},
 		{[]byte{0x03}, 5, 16, 1, 16, ""},
 		{[]byte{0x17, 0x1a, 0x26, 0x34}, 1, 2, 1, 2, ""},
-		{[]byte{0x02, 0x19, 0x2c, 0x37, 0x3a}, 6, 1, 1, 512, "text"},
-		{[]byte{0x06, 0x12}, 6, 1, 1, 32, "name"},
+		{[]byte{0x02, 0x19, 0x2c, 0x37, 0x3a}, 6, 2, 2, 512, "text"},
+		{[]byte{0x06, 0x12}, 6, 2, 2, 32, "name"},
 		{[]byte{0x23}, 6, 44, 1, 44, ""},
 		{[]byte{0x20}, 6, 176, 1, 176, ""},
 		{[]byte{0x1f}, 6, 44, 44, 748, ""},
@@ -150,7 +150,7 @@ func spelt(do func(w row, kind byte)) {
 	}
 }
 
-// P6.1: each byte at each place of texts and names; a 0 at the end alone, behind another byte.
+// P6.1: each byte at each place of texts and names; a 0 at the end alone, behind another byte, in an even number of bytes.
 func TestRightSigns(t *testing.T) {
 	spelt(func(w row, kind byte) {
 		for _, n := range []int{1, 2, 3, 4, 31, 32, w.most - 1, w.most} {
@@ -161,26 +161,66 @@ func TestRightSigns(t *testing.T) {
 				for sign := range 256 {
 					body := bytes.Repeat([]byte("a"), n)
 					body[place] = byte(sign)
-					end := sign == 0 && place == n-1 && n > 1
-					right(t, of(kind, 6, body...), end || may(w.text, byte(sign)))
+					end := sign == 0 && place == n-1
+					right(t, of(kind, 6, body...), n%2 == 0 && (end || may(w.text, byte(sign))))
 				}
 			}
 		}
 	})
 }
 
-// P6.1: texts of one byte and of the greatest length, with the 0 at their end and without; no 0 counts as one more.
+// P6.1: texts of each number of bytes, with the 0 at their end and without: those of an even number alone, from 2 to the most.
+func TestRightOddAndEven(t *testing.T) {
+	spelt(func(w row, kind byte) {
+		for n := range w.most + 9 {
+			want := n >= 2 && n%2 == 0 && n <= w.most
+			full := bytes.Repeat([]byte("a"), n)
+			right(t, of(kind, 6, full...), want)
+			if n > 0 {
+				full[n-1] = 0
+				right(t, of(kind, 6, full...), want)
+			}
+			if n > 1 {
+				full[n-2] = 0
+				right(t, of(kind, 6, full...), false)
+			}
+			right(t, of(kind, 6, record.OfText(strings.Repeat("a", n))...), n > 0 && n <= w.most)
+		}
+	})
+}
+
+// P6.1: the shortest texts: of two bytes and of four; one byte and three are none, with a 0 at the end or without.
+func TestRightShortTexts(t *testing.T) {
+	spelt(func(_ row, kind byte) {
+		right(t, of(kind, 6, 0x61), false)
+		right(t, of(kind, 6, 0x00), false)
+		right(t, of(kind, 6, 0x61, 0x00), true)
+		right(t, of(kind, 6, 0x61, 0x62), true)
+		right(t, of(kind, 6, 0x61, 0x62, 0x00), false)
+		right(t, of(kind, 6, 0x61, 0x62, 0x63), false)
+		right(t, of(kind, 6, 0x61, 0x62, 0x63, 0x00), true)
+	})
+	right(t, of(0x2c, 6, 0x01), false)
+	right(t, of(0x2c, 6, 0x01, 0x00), true)
+	right(t, of(0x2c, 6, 0x01, 0x01), true)
+}
+
+// P6.1: texts at the least and the greatest length, with the 0 at their end and without; no 0 counts as one more.
 func TestRightEnds(t *testing.T) {
 	spelt(func(w row, kind byte) {
 		full := bytes.Repeat([]byte("Z"), w.most+2)
-		right(t, of(kind, 6, 'x'), true)
+		right(t, of(kind, 6, 'x'), false)
+		right(t, of(kind, 6, 'x', 'y'), true)
 		right(t, of(kind, 6, 'x', 0), true)
 		right(t, of(kind, 6, 0), false)
 		right(t, of(kind, 6, 0, 0), false)
 		right(t, of(kind, 6, 0, 'x'), false)
 		right(t, of(kind, 6, 'x', 0, 0), false)
 		right(t, of(kind, 6, 'x', 0, 0, 0), false)
+		right(t, of(kind, 6, 'x', 'y', 0, 0), false)
 		right(t, of(kind, 6, 'x', 0, 'x', 0), false)
+		right(t, of(kind, 6, full[:w.most-1]...), false)
+		right(t, of(kind, 6, append(bytes.Clone(full[:w.most-2]), 0)...), false)
 		right(t, of(kind, 6, full[:w.most]...), true)
 		right(t, of(kind, 6, append(bytes.Clone(full[:w.most-1]), 0)...), true)
 		right(t, of(kind, 6, append(bytes.Clone(full[:w.most-2]), 0, 0)...), false)
@@ -191,18 +231,45 @@ func TestRightEnds(t *testing.T) {
 	})
 }
 
-// P6.1: names with other signs are texts, but no names.
+// P6.1: names with other signs are texts, but no names; without the 0 that an odd number of bytes needs they are neither.
 func TestRightNames(t *testing.T) {
 	for _, kind := range []byte{0x06, 0x12} {
-		for _, name := range []string{"a", "Z", "0", "_", "?", "$", "A_0?$z9Za", "$$$", "00", "abcdefghijklmnopqrstuvwxyz012345"} {
-			right(t, of(kind, 6, []byte(name)...), true)
+		for _, name := range []string{"a", "Z", "0", "_", "?", "$", "A_0?$z9Za", "$$$", "00", "abcdefghijklmnopqrstuvwxyz01234", "abcdefghijklmnopqrstuvwxyz012345"} {
+			right(t, of(kind, 6, record.OfText(name)...), true)
+			right(t, of(kind, 6, []byte(name)...), len(name)%2 == 0)
 		}
 		for _, name := range []string{"", "a b", "a-b", "a.b", "@", "[", "`", "{", "/", ":", "a\n", "é", "a\x80", "a\xff", "#", "%", ">", "^"} {
+			right(t, of(kind, 6, record.OfText(name)...), false)
 			right(t, of(kind, 6, []byte(name)...), false)
-			if name != "" {
-				right(t, of(0x19, 6, []byte(name)...), true)
+			right(t, of(0x19, 6, record.OfText(name)...), name != "")
+			right(t, of(0x19, 6, []byte(name)...), name != "" && len(name)%2 == 0)
+		}
+	}
+}
+
+// P6.1, P6.2: what is right can be joined, and is split as it was.
+func TestRightIsJoined(t *testing.T) {
+	fill := bytes.Repeat([]byte("a"), 65600)
+	seen := 0
+	for _, w := range table() {
+		for _, kind := range w.kinds {
+			for n := range fill {
+				r := api.Record{Kind: kind, Data: w.data, Body: fill[:n]}
+				if !record.Right(r) {
+					continue
+				}
+				seen++
+				l := []api.Record{r, end()}
+				if kind == 0x04 {
+					l = l[1:]
+				}
+				joins(t, l, stream(l...))
+				splits(t, stream(l...), l, len(stream(l...)))
 			}
 		}
+	}
+	if seen < 8191+5*256+2*16+32+17 {
+		t.Fatal(seen)
 	}
 }
 
